@@ -1,0 +1,1 @@
+"""Shaftfall: pieces that are turned and fall into a shaft."""
