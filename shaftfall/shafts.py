@@ -28,6 +28,11 @@ def mirrored_shaft(shaft):
     return tuple([row[::-1] for row in shaft])
 
 
+def width_of(shaft):
+    """How many columns the shaft has."""
+    return len(shaft[0]) if shaft else 0
+
+
 def columns_of(shaft):
     """A list of the columns from the left, each a text of its signs from the lowest up."""
     return ["".join(signs) for signs in zip(*shaft)]

@@ -3,6 +3,9 @@
 import inspect
 import itertools
 
+from shaftfall.errors import ShaftError
+from shaftfall.pieces import faces, turned
+
 
 def is_told_kind(thing):
     """Whether a thing consists of tuples, texts, whole numbers, truths and None alone."""
@@ -32,3 +35,28 @@ def small_shafts(columns, rows):
     """All shafts of this size."""
     lines = ["".join(signs) for signs in itertools.product(".#", repeat=columns)]
     return itertools.product(lines, repeat=rows)
+
+
+def full_cells(shaft):
+    """The set of the full cells."""
+    return {(x, y) for y, row in enumerate(shaft) for x, sign in enumerate(row) if sign == "#"}
+
+
+def shaft_with(columns, rows, cells):
+    """The shaft of this size with just these cells full."""
+    return tuple("".join("#" if (x, y) in cells else "." for x in range(columns)) for y in range(rows))
+
+
+def mirrored_drop(shaft, piece, where):
+    """The drop by which the mirrored piece lies in the mirrored shaft where this one lies in this shaft."""
+    times, x = where
+    look = turned(piece, times)
+    return -times % len(faces(piece)), len(shaft[0]) - 1 - max(right for right, up in look) - x
+
+
+def told_or_refused(function, *given):
+    """What a function tells, or the class of its refusal."""
+    try:
+        return function(*given)
+    except ShaftError as refusal:
+        return refusal.__class__
