@@ -42,7 +42,8 @@ class Asking:
 class LastingSearch:
     """A search for replies to whatever comes, in shafts of one size, which remembers what it found."""
 
-    def __init__(self, shaft, pieces):
+    def __init__(self, shaft, pieces, in_bags=False):
+        self.in_bags = in_bags
         self.looks = [looks_of(piece) for piece in pieces]
         self.rise = greatest_rise(self.looks, shaft)
         # For lost states a pair of a number of turns that one can not answer, and the piece that shows it.
@@ -64,6 +65,13 @@ class LastingSearch:
     def all_pieces(self):
         """The numbers of all pieces."""
         return tuple(range(len(self.looks)))
+
+    def coming_behind(self, coming, number):
+        """The numbers of the pieces that can come behind this one, which is one of those that could come."""
+        if not self.in_bags:
+            return coming
+        left = tuple([each for each in coming if each != number])
+        return left if left else self.all_pieces()
 
     def climbed(self, state, most):
         """A number of turns up to most that one can answer; most itself, if one can answer so many."""
@@ -122,8 +130,9 @@ class LastingSearch:
     def options(self, state, number):
         """A list of the drops of a piece, each with the state behind it, the most promising first."""
         shaft, coming = state
+        later = self.coming_behind(coming, number)
         found = [(pile_of(left), where, left) for where, (left, gone) in outcomes(shaft, self.looks[number])]
-        return [(where, (left, coming)) for pile, where, left in sorted(found)]
+        return [(where, (left, later)) for pile, where, left in sorted(found)]
 
     def go_on(self, path, asking):
         """Take or drop the next reply, or ask about the state behind it, if nothing is known of that."""

@@ -50,8 +50,9 @@ def left_by_drops(left, looks):
 def best_plan(shaft, pieces):
     """The most rows that plans bring, and the first plan that brings them; None, if there is no plan."""
     search = PlanSearch(pieces)
+    order = tuple(range(len(pieces)))
     for wanted in reversed(range(most_rows(shaft, count_cells(pieces)) + 1)):
-        plan = search.first_plan(shaft, wanted)
+        plan = search.first_plan(shaft, wanted, order)
         if plan is not None:
             return wanted, plan
     return None
@@ -64,7 +65,7 @@ def emptied(shaft, pieces):
     if over > 0:
         return None
     # Cells go by whole rows alone, so none is left just where so many rows went.
-    return PlanSearch(pieces).first_plan(shaft, wanted)
+    return PlanSearch(pieces).first_plan(shaft, wanted, tuple(range(len(pieces))))
 
 
 def count_cells(pieces):
@@ -88,29 +89,30 @@ class PlanSearch:
 
     def __init__(self, pieces):
         self.looks = [looks_of(piece) for piece in pieces]
-        self.cells_from = [count_cells(pieces[number:]) for number in range(len(pieces))]
-        # The fewest rows that were looked for in vain, by how many pieces were dropped and the shaft behind them.
+        self.sizes = [len(piece) for piece in pieces]
+        # The fewest rows that were looked for in vain, by the pieces that were left and the shaft ahead of them.
         self.failed = {}
 
-    def first_plan(self, shaft, wanted):
-        """The first plan that brings so many rows or more; None, if there is none."""
+    def first_plan(self, shaft, wanted, order):
+        """The first plan that brings so many rows or more, for pieces of these numbers; None, if there is none."""
         # A list of what is still to be tried, and no calls within calls: plans may be long.
         untried = [((), shaft, wanted)]
         while untried:
             plan, now, lacking = untried.pop()
-            if len(plan) == len(self.looks):
+            left = order[len(plan):]
+            if not left:
                 if lacking == 0:
                     return plan
-            elif not self.is_vain(len(plan), now, lacking):
+            elif not self.is_vain(left, now, lacking):
                 # Should this shaft come up again as late, all plans that go on from here have been tried.
-                self.failed[(len(plan), now)] = lacking
+                self.failed[(left, now)] = lacking
                 # The last one is tried next, so the first drop comes last.
-                for where, (behind, gone) in reversed(outcomes(now, self.looks[len(plan)])):
+                for where, (behind, gone) in reversed(outcomes(now, self.looks[left[0]])):
                     untried.append((plan + (where,), behind, max(0, lacking - gone)))
         return None
 
-    def is_vain(self, dropped, shaft, lacking):
+    def is_vain(self, left, shaft, lacking):
         """Whether it is known that the pieces that are left can not bring so many rows."""
-        if self.failed.get((dropped, shaft), lacking + 1) <= lacking:
+        if self.failed.get((left, shaft), lacking + 1) <= lacking:
             return True
-        return most_rows(shaft, self.cells_from[dropped]) < lacking
+        return most_rows(shaft, sum([self.sizes[number] for number in left])) < lacking

@@ -1,4 +1,7 @@
-"""Those rules of LANGUAGE.md that a look at the files can tell: L1, L2, L8, L10, L12, L14, L16, L17, L20, L21, L27."""
+"""Those rules of LANGUAGE.md that a look at the files can tell.
+
+L1, L2, L7, L8, L10, L12, L14, L16, L17, L18, L20, L21, L25 and L27, as far as they can be seen so.
+"""
 
 import ast
 import builtins
@@ -19,6 +22,11 @@ BARRED_WORDS = re.compile(
     r"|namedtuple|NamedTuple|TypedDict|TYPE_CHECKING|abstractmethod)\b|dataclass|overload|contextmanager"
 )
 BARRED_NAMES = set("register mro elements open input version_info with_traceback add_note format format_map".split())
+BUILTIN_METHODS = (
+    "append clear copy count endswith extend find get index insert isalnum isalpha isdigit islower isspace isupper"
+    " items join keys ljust lower lstrip partition pop remove replace reverse rfind rjust rpartition rsplit rstrip"
+    " setdefault split splitlines startswith strip update upper values zfill bit_length".split()
+)
 BARRED_NODES = (ast.Global, ast.AsyncFunctionDef, ast.AsyncFor, ast.AsyncWith, ast.Await, ast.Div)
 
 
@@ -104,6 +112,34 @@ class Code(unittest.TestCase):
     def test_barred_statements(self):
         for where, node in nodes():
             self.assertNotIsInstance(node, BARRED_NODES, where)
+
+    def test_methods_and_attributes_have_names_of_their_own(self):
+        methods, attributes = set(), set()
+        for where, node in nodes():
+            if isinstance(node, ast.ClassDef):
+                methods.update(each.name for each in node.body if isinstance(each, ast.FunctionDef))
+            if isinstance(node, ast.Attribute) and isinstance(node.ctx, ast.Store):
+                attributes.add(node.attr)
+        self.assertEqual(methods & attributes, set())
+
+    def test_attributes_and_methods_that_are_read_are_there(self):
+        known = set(BUILTIN_METHODS)
+        for where, node in nodes():
+            if isinstance(node, ast.FunctionDef):
+                known.add(node.name)
+            if isinstance(node, ast.Attribute) and isinstance(node.ctx, ast.Store):
+                known.add(node.attr)
+        for where, node in nodes():
+            if isinstance(node, ast.Attribute):
+                self.assertIn(node.attr, known, where)
+
+    def test_lists_instead_of_generators(self):
+        # L7 asks for this where a class of the package has __eq__, as games have.
+        for where, node in nodes():
+            if isinstance(node, ast.Call) and isinstance(node.func, ast.Name):
+                if node.func.id in ("any", "all", "min", "max", "sum", "sorted"):
+                    for each in node.args:
+                        self.assertNotIsInstance(each, ast.GeneratorExp, where)
 
     def test_literals(self):
         for where, node in nodes():

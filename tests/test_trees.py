@@ -172,6 +172,13 @@ class Sure(Trees):
             for turns in range(12):
                 self.check(shaft, pieces, turns, tell(shaft, turns))
 
+    def test_a_hope_that_fails_late(self):
+        # What rested on it must be forgotten too, else 11 turns seem to be answered.
+        pieces = (((0, 0), (1, 0), (1, 1)), ((0, 1), (1, 0), (2, 0)))
+        for turns in (9, 10, 11):
+            self.check(("....",) * 4, pieces, turns, turns <= 9)
+        self.assertEqual(lasts(("....",) * 4, pieces, 13), 9)
+
     def test_much_room(self):
         wide = ("." * 10,) * 20
         self.check(wide, SEVEN, 2, True)
