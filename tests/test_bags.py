@@ -177,6 +177,12 @@ class SureBag(unittest.TestCase):
         self.assertIs(sure_bag(shaft, (DOT, BAR, DOT), 2, (1,)), True)
         self.assertIs(sure_bag(shaft, (DOT, BAR, DOT), 3, (1,)), False)
 
+    def test_a_piece_that_is_too_wide_comes_later(self):
+        big = ((0, 0), (0, 1), (0, 2), (1, 0), (2, 0))
+        for rows in (2, 3, 6):
+            told = [sure_bag(("..",) * rows, (DOT, big), turns, (1,)) for turns in range(4)]
+            self.assertEqual(told, [True, True, False, False])
+
     def test_no_bag(self):
         for come in ((0, 0), (2,), (-1,), (0, 1, 1, 1), (1, -2), (10**30,)):
             for turns in (0, 1, 5):

@@ -238,6 +238,11 @@ class Emptied(unittest.TestCase):
         self.assertEqual(emptied(EMPTY, (BAR,) * 4), ((0, 0),) * 4)
         self.assertEqual(emptied(("...",) * 2, (CORNER, CORNER)), ((0, 0), (2, 1)))
 
+    def test_one_column(self):
+        self.assertEqual(emptied((".",), (DOT,)), ((0, 0),))
+        self.assertEqual(emptied((".", "."), (DOT, TWO)), ((0, 0), (0, 0)))
+        self.assertEqual(emptied(("#", "#", "."), (DOT,)), ((0, 0),))
+
     def test_without_an_answer(self):
         self.assertIsNone(emptied(EMPTY, (SQUARE,)))
         self.assertIsNone(emptied(EMPTY, (DOT, TWO)))
